@@ -191,7 +191,7 @@ func begin(w *world, seed int) {
 	if seed%10 == 9 {
 		return
 	}
-	for _, line := range []string{"commit a 1", "file f 1 2", "file d/x 3", "commit b 2 a", "commit c 2 a", "file f 1 2 4", "commit main 3 b c"} {
+	for _, line := range beginning() {
 		w.do(strings.Fields(line)...)
 	}
 }
@@ -222,9 +222,6 @@ func TestRandomScripts(t *testing.T) {
 			}
 			count[kind]++
 		}
-		if seed%10 == 0 {
-			wantSameAsRun(t, w)
-		}
 	}
 	for kind, least := range map[string]int{
 		"error 2": 200, "error 3": 300, "error 4": 4, "error 5": 300, "error 6": 60, "error 8": 300, "error 9": 150, "error 12": 5, "error 16": 10, "error 20": 50, "error 30": 20, "error 31": 60, "error 33": 20, "error 34": 500, "error 35": 15, "error 40": 200,
@@ -241,23 +238,34 @@ func TestRandomScripts(t *testing.T) {
 	}
 }
 
-// wantSameAsRun: the lines that stand in a script are answered by Run as they were by Do.
-func wantSameAsRun(t testing.TB, w *world) {
-	t.Helper()
-	c := New()
-	r := rand.New(rand.NewSource(1))
-	var script, want strings.Builder
-	m := &maker{Rand: r, odd: 2, often: often}
-	for range 60 {
-		words := m.line()
-		if slices.ContainsFunc(words, func(word string) bool { return word == "" || strings.Contains(word, " ") }) {
-			continue
+// beginning makes the refs that the maker names.
+func beginning() []string {
+	return []string{"commit a 1", "file f 1 2", "file d/x 3", "commit b 2 a", "commit c 2 a", "file f 1 2 4", "commit main 3 b c"}
+}
+
+// TestRandomRuns: the lines of a script are answered by Run as they are by Do.
+func TestRandomRuns(t *testing.T) {
+	for seed := range 100 {
+		c := New()
+		r := rand.New(rand.NewSource(int64(seed)))
+		m := &maker{Rand: r, odd: 2, often: often}
+		var script, want strings.Builder
+		for n := range 80 {
+			words := m.line()
+			if begin := beginning(); n < len(begin) {
+				words = strings.Fields(begin[n])
+			}
+			// Such words can't stand in a script.
+			if len(words) == 0 || slices.ContainsFunc(words, func(word string) bool { return word == "" || strings.Contains(word, " ") }) {
+				continue
+			}
+			script.WriteString(strings.Repeat(" ", r.Intn(2)) + strings.Join(words, pick(r, " ", "   ")) + pick(r, "\n", " \n", "\n\n"))
+			want.WriteString(c.Do(words...) + "\n")
+			m.ids = hexOf(c.store.Commits())
 		}
-		script.WriteString(strings.Repeat(" ", r.Intn(2)) + strings.Join(words, pick(r, " ", "   ")) + pick(r, "\n", " \n", "\n\n"))
-		want.WriteString(c.Do(words...) + "\n")
-	}
-	if got, e := Run(script.String()); e != api.OK || got != want.String() {
-		t.Errorf("%s\nanswered %s, not %s", script.String(), got, want.String())
+		if got, e := Run(script.String()); e != api.OK || got != want.String() {
+			t.Errorf("%s\nanswered %s, not %s", script.String(), got, want.String())
+		}
 	}
 }
 
@@ -280,11 +288,11 @@ func TestAnswersWithoutLayers(t *testing.T) {
 		var lines []string
 		for n := range 80 {
 			words := m.line()
-			if n < 5 {
-				words = strings.Fields([]string{"commit a 1", "file f 1 2", "commit b 2 a", "commit c 2 a", "commit main 3 b c"}[n])
+			if begin := beginning(); n < len(begin) {
+				words = strings.Fields(begin[n])
 			}
 			// How far the power goes hangs on the raw writes of layers.
-			if words == nil || len(words) == 0 || words[0] == "cut" {
+			if len(words) == 0 || words[0] == "cut" {
 				continue
 			}
 			lines = append(lines, fmt.Sprintf("%q", words))
